@@ -430,3 +430,21 @@ func TestManyAtOnce(t *testing.T) {
 	}
 	all.Wait()
 }
+
+// The numbers and the fields that the chapter gives.
+func TestNumbersOfTheChapter(t *testing.T) {
+	if api.KindGlyf != 1 || api.KindCff != 2 || api.MaxFont != 1048576 || api.MaxSfnt != 64 {
+		t.Error("a kind or a limit has another number")
+	}
+	if api.ErrSfnt != 31 || api.ErrScaler != 32 || api.ErrTables != 33 || api.ErrFace != 35 {
+		t.Error("an error has another number")
+	}
+	var _ struct {
+		Tag     string
+		At, Len int
+	} = api.Table{}
+	var _ struct {
+		Tag   string
+		Bytes []byte
+	} = api.Piece{}
+}
