@@ -44,7 +44,7 @@ func marksOf(z api.Zone, axis int) []mark {
 // followed: the new places of a contour's untouched points, by their numbers in it.
 func followed(contour []mark) (map[int]int, api.Errno) {
 	var r reckoner
-	places, touched := map[int]int{}, touchedOf(contour)
+	places, touched := make(map[int]int, len(contour)), touchedOf(contour)
 	for i, a := range touched {
 		// Behind the last touched point comes the first: where there is just one, a is b, and all others follow it.
 		b := touched[(i+1)%len(touched)]
